@@ -1,0 +1,1 @@
+"""A plant's streams, balanced in exact fractions: see streambalance.sheet."""
