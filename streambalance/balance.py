@@ -39,6 +39,16 @@ def common_multiple(weights):
     return result
 
 
+# Of each measured stream its ends, its value and its weight.
+def measured_links(ends, measured):
+    return [(pair, known[0], known[1]) for pair, known in zip(ends, measured) if known is not None]
+
+
+# What flows into the node by the values, less what flows out of it.
+def net_inflow(node, links):
+    return sum([direction(ends, node) * value for ends, value, weight in links])
+
+
 # That the group of nodes balances, told of the unknown groups' numbers. All is multiplied by
 # scale, a multiple of each weight, so that the equation is one of whole numbers.
 def balance_row(group, unknown, links, scale):
@@ -47,8 +57,7 @@ def balance_row(group, unknown, links, scale):
         factors.append(sum([
             direction(ends, group) * direction(ends, other) * (scale // weight) for ends, value, weight in links
         ]))
-    inflow = sum([direction(ends, group) * value for ends, value, weight in links])
-    return factors + [-inflow * scale]
+    return factors + [-net_inflow(group, links) * scale]
 
 
 # Nodes that streams which are not measured join have one number, so these groups stand in the
@@ -56,10 +65,7 @@ def balance_row(group, unknown, links, scale):
 def node_numbers(size, ends, measured):
     groups = least_joined(size, [pair for pair, known in zip(ends, measured) if known is None])
     whole = least_joined(size, ends)
-    links = []
-    for pair, known in zip(ends, measured):
-        if known is not None:
-            links.append(((groups[pair[0]], groups[pair[1]]), known[0], known[1]))
+    links = measured_links([(groups[first], groups[second]) for first, second in ends], measured)
     unknown = [node for node in range(size) if groups[node] == node and whole[node] != node]
     scale = common_multiple([weight for pair, value, weight in links])
     found = solved([balance_row(group, unknown, links, scale) for group in unknown])
@@ -117,11 +123,28 @@ class Balance:
                 flow = minus(flow, times(self.measured_flow(place), side))
         return flow
 
+    # The flow as adjust tells it, or None if it is not known.
+    def flow(self, stream):
+        if self.is_measured(stream):
+            return self.measured_flow(stream)
+        if self.is_told_by_others(stream):
+            return self.told_flow(stream)
+        return None
+
+    def can_be_checked(self, stream):
+        return self.is_measured(stream) and self.is_told_by_others(stream)
+
     # A sort, as adjust answers it, and the flow that goes with it.
     def sort_and_flow(self, stream):
-        told = self.is_told_by_others(stream)
-        if self.is_measured(stream):
-            return (2 if told else 1, self.measured_flow(stream))
-        if told:
-            return (3, self.told_flow(stream))
-        return (0, NOTHING)
+        flow = self.flow(stream)
+        if flow is None:
+            return (0, NOTHING)
+        if not self.is_measured(stream):
+            return (3, flow)
+        return (2 if self.can_be_checked(stream) else 1, flow)
+
+    # The balance that there were if the stream were not measured. The list is copied: it is the plant's own.
+    def without(self, stream):
+        measured = list(self.measured)
+        measured[stream] = None
+        return Balance(self.size, self.ends, measured)

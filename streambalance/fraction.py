@@ -36,3 +36,13 @@ def over(fraction, number):
 
 def square(fraction):
     return (fraction[0] * fraction[0], fraction[1] * fraction[1])
+
+
+# What is below keeps from 1 on, also where the divisor is less than nothing.
+def quotient(fraction, divisor):
+    sign = -1 if divisor[0] < 0 else 1
+    return lowest(sign * fraction[0] * divisor[1], sign * fraction[1] * divisor[0])
+
+
+def is_less(left, right):
+    return left[0] * right[1] < right[0] * left[1]

@@ -17,6 +17,11 @@ class NotMeasured(Refusal):
         Refusal.__init__(self, -2)
 
 
+class NoShare(Refusal):
+    def __init__(self):
+        Refusal.__init__(self, -2)
+
+
 class WrongText(Refusal):
     def __init__(self, place):
         Refusal.__init__(self, -1000 - place)

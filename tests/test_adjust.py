@@ -4,13 +4,10 @@ import random
 import unittest
 from fractions import Fraction
 
-from helper import MOST, adjust, check, last, measure, numbers, run, sheet, told_state
+from helper import (MOST, adjust, best_flows, check, expected_adjust, last, measure, measured_all, numbers, run, sheet,
+                    some_measured, some_sheet, told_state)
 
 SPLIT = 'feed:outside>mill,over:mill>outside,under:mill>cell,tail:cell>outside'
-
-
-def measured_all(k, values_and_weights):
-    return [measure(k, stream + 1, *pair) for stream, pair in enumerate(values_and_weights) if pair is not None]
 
 
 class Adjust(unittest.TestCase):
@@ -111,82 +108,6 @@ class Numbers(unittest.TestCase):
         self.assertEqual(last(*given, numbers(1)), [0, 0, 1, 8, 1, 5, 1])
 
 
-def reduced(rows):
-    """The rows, each pivot 1 and alone in its column, and the pivots' columns."""
-    rows, pivots = [list(row) for row in rows], []
-    for column in range(len(rows[0]) if rows else 0):
-        found = [place for place in range(len(pivots), len(rows)) if rows[place][column]]
-        if not found:
-            continue
-        top = len(pivots)
-        rows[top], rows[found[0]] = rows[found[0]], rows[top]
-        rows[top] = [number / rows[top][column] for number in rows[top]]
-        for place in range(len(rows)):
-            if place != top and rows[place][column]:
-                factor = rows[place][column]
-                rows[place] = [own - factor * other for own, other in zip(rows[place], rows[top])]
-        pivots.append(column)
-    return rows, pivots
-
-
-def free_directions(rows, width):
-    """A basis of what the rows send to nothing."""
-    rows, pivots = reduced(rows)
-    basis = []
-    for free in [column for column in range(width) if column not in pivots]:
-        vector = [Fraction(0)] * width
-        vector[free] = Fraction(1)
-        for row, pivot in zip(rows, pivots):
-            vector[pivot] = -row[free]
-        basis.append(vector)
-    return basis
-
-
-def best_flows(nodes, ends, measured):
-    """Flows of least change and which of them are sure: by rings, not by numbers of nodes."""
-    width = len(ends)
-    balance = [[Fraction((end[1] == node) - (end[0] == node)) for end in ends] for node in range(1, nodes + 1)]
-    rings = free_directions(balance, width)
-    weights = [pair[1] if pair else 0 for pair in measured]
-    values = [pair[0] if pair else 0 for pair in measured]
-    normal = [[sum(w * a * b for w, a, b in zip(weights, one, other)) for other in rings]
-              + [Fraction(sum(w * a * v for w, a, v in zip(weights, one, values)))] for one in rings]
-    rows, pivots = reduced(normal)
-    amounts = [Fraction(0)] * len(rings)
-    for row, pivot in zip(rows, pivots):
-        amounts[pivot] = row[-1]
-    loose = free_directions([row[:-1] for row in normal], len(rings))
-    mixed = [[sum((t * ring[j] for t, ring in zip(some, rings)), Fraction(0)) for j in range(width)]
-             for some in [amounts] + loose]
-    sure = [all(direction[j] == 0 for direction in mixed[1:]) for j in range(width)]
-    return mixed[0], sure
-
-
-def expected_adjust(nodes, ends, measured):
-    flows, sure = best_flows(nodes, ends, measured)
-    change = sum((pair[1] * (flow - pair[0]) ** 2 for pair, flow in zip(measured, flows) if pair), Fraction(0))
-    answer = [0, change.numerator, change.denominator]
-    for j, pair in enumerate(measured):
-        sort = 3 if sure[j] else 0
-        if pair:
-            sort = 2 if best_flows(nodes, ends, measured[:j] + [None] + measured[j + 1:])[1][j] else 1
-        flow = flows[j] if sort else Fraction(0)
-        answer += [sort, flow.numerator, flow.denominator]
-    return answer
-
-
-def some_sheet(chance, most_nodes, most_streams):
-    """A text, and how many nodes and what ends its streams have."""
-    nodes, ends, parts = ['outside'], [], []
-    pool = ['outside'] * chance.randrange(2) + ['n' + sign for sign in 'abcdefgh'[:most_nodes]]
-    for stream in range(chance.randrange(1, most_streams + 1)):
-        pair = chance.sample(pool, 2)
-        nodes += [name for name in pair if name not in nodes]
-        ends.append((nodes.index(pair[0]), nodes.index(pair[1])))
-        parts.append(f's{"abcdefghijkl"[stream]}:{pair[0]}>{pair[1]}')
-    return ','.join(parts), len(nodes) - 1, ends
-
-
 def as_fractions(row):
     return [Fraction(row[place], row[place + 1]) for place in range(0, len(row), 2)]
 
@@ -211,9 +132,7 @@ class AgainstRings(unittest.TestCase):
 
     def compare(self, chance, most_nodes, most_streams, value, weight):
         text, nodes, ends = some_sheet(chance, most_nodes, most_streams)
-        part = chance.choice([0, 3, 5, 8, 10])
-        measured = [(chance.randrange(value + 1), chance.randrange(1, weight + 1)) if chance.randrange(10) < part
-                    else None for end in ends]
+        measured = some_measured(chance, len(ends), value, weight)
         given = [sheet(text)] + measured_all(2, measured)
         laid_out, adjusted, numbered = [run(*given, adjust(2), numbers(2))[place] for place in (0, -2, -1)]
         self.assertEqual(laid_out, [0, len(ends), nodes], text)

@@ -1,6 +1,7 @@
 """That the package's files keep to the small part of Python: what a walk over their trees can see of it."""
 
 import ast
+import builtins
 import pathlib
 import re
 import unittest
@@ -104,10 +105,60 @@ class Language(unittest.TestCase):
             bound = bound_names(tree)
             for name in bound:
                 self.assertTrue(name == '__init__' or re.fullmatch('[A-Za-z][A-Za-z0-9_]*', name), name)
-                self.assertNotIn(name, OWN_NAMES)
+                self.assertFalse(hasattr(builtins, name) and name != '__init__', name)
             for node in ast.walk(tree):
                 if isinstance(node, ast.Name):
                     self.assertIn(node.id, bound + OWN_NAMES)
+
+    def test_each_name_once_at_the_top(self):
+        for path, text, tree in self.each():
+            tops = []
+            for part in tree.body:
+                if isinstance(part, ast.ImportFrom):
+                    tops += [name.name for name in part.names]
+                elif isinstance(part, ast.Assign):
+                    tops.append(part.targets[0].id)
+                elif isinstance(part, (ast.FunctionDef, ast.ClassDef)):
+                    tops.append(part.name)
+            self.assertEqual(len(tops), len(set(tops)))
+            drawn = [name.name for part in tree.body if isinstance(part, ast.ImportFrom) for name in part.names]
+            classes = [part.name for part in tree.body if isinstance(part, ast.ClassDef)]
+            for part in tree.body:
+                if isinstance(part, (ast.FunctionDef, ast.ClassDef)):
+                    within = bound_names(part)
+                    if isinstance(part, ast.ClassDef):
+                        within.remove(part.name)
+                    self.assertEqual([name for name in within if name in drawn + classes], [], part.name)
+
+    def test_no_two_files_draw_from_one_another(self):
+        drawn = {}
+        for path, text, tree in self.each():
+            drawn[path.stem] = {part.module.split('.')[1] for part in tree.body if isinstance(part, ast.ImportFrom)}
+        while drawn:
+            free = [name for name in drawn if not drawn[name] & set(drawn)]
+            self.assertNotEqual(free, [], drawn)
+            for name in free:
+                del drawn[name]
+
+    def test_plain_signs_and_no_annotations(self):
+        for path, text, tree in self.each():
+            for node in ast.walk(tree):
+                if isinstance(node, ast.Constant) and isinstance(node.value, str):
+                    self.assertNotIn('%', node.value)
+                if isinstance(node, ast.FunctionDef):
+                    self.assertIsNone(node.returns)
+                    arguments = node.args
+                    self.assertEqual([arguments.vararg, arguments.kwarg, arguments.kwonlyargs], [None, None, []])
+                    self.assertEqual([one.arg for one in arguments.args if one.annotation], [])
+
+    def test_errors_are_the_own_ones(self):
+        for path, text, tree in self.each():
+            for node in ast.walk(tree):
+                if isinstance(node, ast.ExceptHandler):
+                    self.assertEqual(node.type.id, 'Refusal')
+                if isinstance(node, ast.Raise):
+                    self.assertIsInstance(node.exc, ast.Call)
+                    self.assertFalse(hasattr(builtins, node.exc.func.id))
 
     def test_methods_and_values(self):
         methods, values, used = [], [], []
